@@ -22,3 +22,21 @@ func Op(o api.Op) api.Op {
 	o.Plan = slices.Clone(o.Plan)
 	return o
 }
+
+// Books are l, digits and all, whether they may be or not.
+func Books(l []api.Book) []api.Book {
+	l = slices.Clone(l)
+	for k := range l {
+		l[k].Net, l[k].In = dyads(l[k].Net), dyads(l[k].In)
+	}
+	return l
+}
+
+// dyads are l, digits and all.
+func dyads(l []api.Dyad) []api.Dyad {
+	l = slices.Clone(l)
+	for i := range l {
+		l[i].N = slices.Clone(l[i].N)
+	}
+	return l
+}

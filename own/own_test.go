@@ -50,3 +50,34 @@ func TestOp(t *testing.T) {
 		t.Errorf("the copy shares memory: %v", o)
 	}
 }
+
+func TestBooks(t *testing.T) {
+	list := func() []api.Dyad {
+		return []api.Dyad{{Neg: true, N: api.Nat{1, 2, 0}, Exp: 3}, {Exp: -4}, {N: api.Nat{5}}}
+	}
+	same := func(a, b []api.Dyad) bool {
+		return slices.EqualFunc(a, b, func(a, b api.Dyad) bool {
+			return a.Neg == b.Neg && a.Exp == b.Exp && slices.Equal(a.N, b.N)
+		})
+	}
+	shared := list()
+	l := []api.Book{{Cols: 1, Net: shared, In: shared, Rows: 2, Turns: 3}, {Cols: -9, Net: shared, Rows: -4, Turns: 5}, {}}
+	c := Books(l)
+	if len(c) != 3 {
+		t.Fatalf("%v", c)
+	}
+	for k, b := range c {
+		if d := l[k]; b.Cols != d.Cols || b.Rows != d.Rows || b.Turns != d.Turns || !same(b.Net, d.Net) || !same(b.In, d.In) {
+			t.Errorf("book %d: %v", k, b)
+		}
+	}
+	c[0].Net[0].N[1] = 7
+	c[0].Net[1].Exp = 8
+	c[2].Rows = 9
+	if !same(shared, list()) || !same(c[0].In, list()) || !same(c[1].Net, list()) || l[2].Rows != 0 {
+		t.Errorf("the copy shares memory: %v, %v", l, c)
+	}
+	if c := Books(nil); len(c) != 0 {
+		t.Errorf("of none: %v", c)
+	}
+}
